@@ -1,0 +1,142 @@
+"""What several test files need: pairs and events to go through, and a model.
+
+The model is written apart from the program: with lists, and with one branch
+for each kind of event, straight from the words of the document.
+"""
+
+from itertools import permutations
+
+SIXTEEN = tuple("abcdefghijklmnop")
+
+
+def pair_of(told, heard):
+    return tuple(told), tuple(heard)
+
+
+def pairs_of(letters):
+    rows = list(permutations(letters))
+    return [(told, heard) for told in rows for heard in rows]
+
+
+def faults_of(row):
+    places = range(len(row))
+    return (
+        [("lost", p) for p in places]
+        + [("twice", p) for p in places]
+        + [("as", p, q) for p in places for q in places if p != q]
+    )
+
+
+def nameless_of(row):
+    return [("place", p) for p in range(len(row))] + faults_of(row)
+
+
+def events_of(row):
+    return nameless_of(row) + [("name", x) for x in row]
+
+
+def take(row, place):
+    row.insert(0, row.pop(place))
+    return row[0]
+
+
+def model_go(pair, events):
+    told, heard = list(pair[0]), list(pair[1])
+    said, written = [], []
+    for event in events:
+        kind = event[0]
+        if kind == "name":
+            said.append(take(told, told.index(event[1])))
+            written.append(take(heard, heard.index(event[1])))
+            continue
+        said.append(take(told, event[1]))
+        if kind == "place":
+            written.append(take(heard, event[1]))
+        elif kind == "twice":
+            written.append(take(heard, event[1]))
+            written.append(take(heard, event[1]))
+        elif kind == "as":
+            written.append(take(heard, event[2]))
+    return (tuple(told), tuple(heard)), said, written
+
+
+def model_reading(pair):
+    return {letter: pair[1][at] for at, letter in enumerate(pair[0])}
+
+
+def many_events(row, many, names=True):
+    """A long list of events of all kinds, the same at each run."""
+    choices = events_of(row) if names else nameless_of(row)
+    number = 7
+    out = []
+    for _ in range(many):
+        number = (number * 1103515245 + 12345) % 2147483648
+        out.append(choices[(number >> 8) % len(choices)])
+    return out
+
+
+class Awkward:
+    """A thing that fails at whatever is asked of it but for its kind."""
+
+    def fail(self, *rest):
+        raise RuntimeError("asked of an awkward thing")
+
+    __eq__ = __ne__ = __lt__ = __le__ = __gt__ = __ge__ = fail
+    __hash__ = __len__ = __iter__ = __bool__ = __getitem__ = fail
+    __contains__ = __int__ = __index__ = __getattr__ = fail
+    __str__ = __repr__ = fail
+
+
+class AwkwardText(str):
+    __eq__ = __ne__ = __lt__ = __le__ = __gt__ = __ge__ = Awkward.fail
+    __hash__ = __len__ = __iter__ = __bool__ = __getitem__ = Awkward.fail
+
+
+class AwkwardTuple(tuple):
+    __eq__ = __ne__ = __len__ = __iter__ = __bool__ = __getitem__ = Awkward.fail
+    __hash__ = Awkward.fail
+
+
+class AwkwardNumber(int):
+    __eq__ = __ne__ = __lt__ = __le__ = __gt__ = __ge__ = Awkward.fail
+    __hash__ = __bool__ = __index__ = Awkward.fail
+
+
+class AwkwardList(list):
+    __len__ = __iter__ = __bool__ = __getitem__ = Awkward.fail
+
+
+def nested(kind, inmost=None, depth=40):
+    thing = inmost
+    for _ in range(depth):
+        thing = kind([thing])
+    return thing
+
+
+def within_itself():
+    thing = []
+    thing.append(thing)
+    return thing
+
+
+def other_things():
+    """Things of many kinds, none of them a row, a pair, an event or a list of such."""
+    return [
+        None, True, False, 0, 1, -1, 10 ** 30, 1.5, float("nan"), 2j,
+        "", "a", "ab", "place", "abc/abc", b"", b"a", b"abc", ..., NotImplemented,
+        (), ("",), (0,), (None,), ((),), ([],), ({},), ({"a"},), (b"a",), ((), ()),
+        [[]], [None], ["a"], [("a",)], {}, {"a": "b"}, {("a",): 1}, set(), {"a"}, frozenset("a"),
+        range(3), iter(()), (x for x in ()), len, int, object(), ValueError("a"), lambda: None,
+        ("place",), ("place", None), ("place", "a"), ("place", [0]), ("place", 0.0),
+        ("name", 0), ("name", None), ("name", ["a"]), ("name", b"a"), ("as", 0), ("as", "a", "b"),
+        ([], 0), ({}, 0), (["place"], 0), (("place",), 0), (b"place", 0), (None, 0), (0, 0),
+        nested(tuple), nested(list), nested(tuple, ()), nested(tuple, "a"), nested(list, ("a",)),
+        (nested(tuple), nested(tuple)), ("place", nested(tuple)), ("name", nested(list)),
+        (nested(list), 0), ("as", nested(tuple), nested(list)),
+        within_itself(), (within_itself(), 0), ("place", within_itself()), ("name", within_itself()),
+        Awkward(), (Awkward(),), (Awkward(), Awkward()), [Awkward()], (Awkward(), 0), ("place", Awkward()),
+        ("name", Awkward()), ("as", Awkward(), 0), ("as", 0, Awkward()), (("a",), (Awkward(),)),
+        AwkwardText("a"), (AwkwardText("a"),), ("name", AwkwardText("a")), (AwkwardText("place"), 0),
+        AwkwardTuple("a"), (AwkwardTuple("a"), ("a",)), AwkwardTuple(("place", 0)),
+        ("place", AwkwardNumber(0)), ("as", AwkwardNumber(0), AwkwardNumber(1)), AwkwardList([("place", 0)]),
+    ]

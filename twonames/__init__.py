@@ -1,0 +1,1 @@
+"""Twonames: a teller and a hearer whose rows fall out of step."""
