@@ -7,6 +7,25 @@ for each kind of event, straight from the words of the document.
 from itertools import permutations
 
 SIXTEEN = tuple("abcdefghijklmnop")
+ALPHABET = "abcdefghijklmnopqrstuvwxyz"
+
+NO_ROWS = [
+    ["a", "b"], "ab", {"a": 1, "b": 2}, {"a", "b"},
+    ("a", "a"), ("a", "b", "a"), SIXTEEN[:15] + ("a",),
+    (), tuple("abcdefghijklmnopq"), tuple(ALPHABET),
+    ("A",), ("a", "B"), ("ab",), ("a", "bc"), ("",), ("a", ""),
+    ("1",), ("`",), ("{",), (" ",), ("-",), ("a", "_"), ("\n",), ("a\n",), ("\u00e4",), ("\uff41",), ("\u0430",),
+    (1,), (True,), (None,), (b"a",), ("a", 1), ("a", ("b",)), ("a", ["b"]), (("a", "b"),), ("a", None),
+]
+
+NO_PAIRS = [
+    [("a", "b"), ("b", "a")], (["a", "b"], ["b", "a"]), (("a", "b"), ["b", "a"]), (["a", "b"], ("b", "a")),
+    ("ab", "ba"), "ab/ba", ("a", "b"), ("a",), (("a",),), (("a",), ("a",), ("a",)), (),
+    ((), ()), (("a",), ("b",)), (("a",), ("a", "b")), (("a", "b"), ("a",)), (("a", "b"), ("a", "c")),
+    (("a", "a"), ("a", "a")), (("a", "b"), ("a", "a")), (("a", "b"), ("b", "b")),
+    (("A",), ("A",)), (("ab",), ("ab",)), ((1,), (1,)), ((None,), (None,)), (("a",), None), (None, ("a",)),
+    (tuple("abcdefghijklmnopq"), tuple("abcdefghijklmnopq")),
+]
 
 
 def pair_of(told, heard):
@@ -62,6 +81,55 @@ def model_go(pair, events):
 
 def model_reading(pair):
     return {letter: pair[1][at] for at, letter in enumerate(pair[0])}
+
+
+def model_rings(next_of):
+    """Rings by the words of (8), of a dict of each letter's next one."""
+    found = []
+    for first in sorted(next_of):
+        ring = first
+        while next_of[ring[-1]] != first:
+            ring += next_of[ring[-1]]
+        if len(ring) > 1 and first == min(ring):
+            found.append(tuple(ring))
+    return found
+
+
+def told_rings(text):
+    """The rings of a text such as "abc de"."""
+    return [tuple(word) for word in text.split()]
+
+
+def is_alike(pair):
+    return pair[0] == pair[1]
+
+
+def kinds_of(events):
+    return [event[0] for event in events]
+
+
+def shuffled(letters, turn):
+    """The letters in an order that hangs on the turn alone."""
+    out, number = [], turn + 1
+    for at, letter in enumerate(letters):
+        number = (number * 1103515245 + 12345) % 2147483648
+        out.insert((number >> 8) % (at + 1), letter)
+    return tuple(out)
+
+
+def turned(row, ring):
+    """The pair of a row in which the letters of one ring are each read as the next one, the others right."""
+    read = dict(zip(ring, ring[1:] + ring[:1]))
+    return tuple(row), tuple(read.get(x, x) for x in row)
+
+
+class Refusing:
+    """What a test case needs to see that something is refused."""
+
+    def refused(self, error, asked, *things, **named):
+        with self.assertRaises(error, msg=asked) as caught:
+            asked(*things, **named)
+        self.assertIs(type(caught.exception), error)
 
 
 def many_events(row, many, names=True):

@@ -5,8 +5,8 @@ import inspect
 import sys
 import unittest
 
-from tests.helpers import SIXTEEN, many_events, other_things, pair_of
-from twonames import readings, rows
+from tests.helpers import SIXTEEN, many_events, other_things, pair_of, shuffled, turned
+from twonames import alone, healing, made, onering, readings, rows
 
 INTERFACE = {
     rows: {"is_row": ["thing"], "is_pair": ["thing"], "is_event": ["pair", "thing"], "go": ["pair", "events"]},
@@ -14,15 +14,30 @@ INTERFACE = {
         "reading": ["pair"], "wrong": ["pair"], "rings": ["pair"],
         "fault_rings": ["pair", "events"], "left": ["pair", "events"], "leaves_none": ["pair", "events"],
     },
+    made: {"made_by": ["row", "wished"], "even": ["pair"]},
+    alone: {"alone": ["pair"], "can_heal": ["pair", "letters"]},
+    healing: {
+        "names_needed": ["pair"], "healing": ["pair"], "heals": ["pair", "events"], "one_name": ["pair", "letter"],
+    },
+    onering: {"fewest_places": ["pair"], "shortest_healing": ["pair"]},
 }
 ASKED = [(getattr(module, name), names) for module, told in INTERFACE.items() for name, names in told.items()]
+KINDS = {
+    "is_row": bool, "is_pair": bool, "is_event": bool, "go": tuple, "leaves_none": bool, "made_by": tuple, "even": bool,
+    "alone": tuple, "can_heal": bool, "names_needed": int, "heals": bool, "one_name": tuple, "fewest_places": int,
+}
 
 
 def handed_in(names):
     """What is handed in, made anew at each call, by the names of the arguments."""
+    # Of just one ring: a, d, c.
     pair = pair_of("cabed", "adbec")
     things = {
         "pair": pair,
+        "row": pair[0],
+        "wished": [tuple("ad"), tuple("bec")],
+        "letters": ["d", "a"],
+        "letter": "d",
         "events": [("place", 2), ("lost", 3), ("as", 1, 4), ("twice", 2), ("place", 4), ("lost", 0)],
         "thing": pair if names == ["thing"] else ("as", 1, 4),
     }
@@ -36,6 +51,17 @@ def lists_within(thing):
         for part in thing:
             found += lists_within(part)
     return found
+
+
+def many_things(letters, many):
+    """What is handed in: a row of so many letters, and lists of so many events and letters."""
+    row = SIXTEEN[:letters]
+    events = many_events(row, many, names=False)
+    return {
+        "pair": turned(row, shuffled(row, 1)),
+        "row": row, "wished": [row[at:at + 2] for at in range(0, letters, 2)], "events": events, "thing": events[0],
+        "letters": list(row * many)[:many], "letter": row[-1],
+    }
 
 
 class Names(unittest.TestCase):
@@ -67,14 +93,18 @@ class NothingIsChanged(unittest.TestCase):
             self.assertEqual(things, kept, asked)
 
     def test_what_is_refused_is_as_it_was(self):
-        for bad in [("name", "z"), ("place", 9), ("name", "a")]:
-            for asked in (rows.go, readings.fault_rings, readings.left, readings.leaves_none):
-                events = [("place", 1), bad]
+        for asked, names in ASKED:
+            for bad in [("name", "z"), ("place", 9), ("name", "a"), "z", ("b", "a"), ["a"]]:
+                things = handed_in(names)
+                for thing in things.values():
+                    if isinstance(thing, list):
+                        thing.append(bad)
+                kept = copy.deepcopy(things)
                 try:
-                    asked(pair_of("abc", "bca"), events)
+                    asked(**things)
                 except ValueError:
                     pass
-                self.assertEqual(events, [("place", 1), bad])
+                self.assertEqual(things, kept, (asked, bad))
 
     def test_what_is_told_may_be_changed(self):
         for asked, names in ASKED:
@@ -97,15 +127,20 @@ class NothingIsChanged(unittest.TestCase):
         for events in [[], [("name", "a")]]:
             _, said, written = rows.go(pair_of("ab", "ab"), events)
             self.assertIsNot(said, written)
+        wished = []
+        self.assertIsNot(made.made_by(("a", "b"), wished)[1], wished)
+        self.assertIsNot(made.made_by(("a", "b"), wished)[1], made.made_by(("a", "b"), wished)[1])
+        self.assertIsNot(healing.healing(pair_of("ab", "ab")), healing.healing(pair_of("ab", "ab")))
 
     def test_a_list_that_was_handed_in_may_be_changed_later(self):
         for asked, names in ASKED:
-            if "events" in names:
-                things = handed_in(names)
-                told = asked(**things)
-                kept = copy.deepcopy(told)
-                things["events"].clear()
-                self.assertEqual(told, kept, asked)
+            things = handed_in(names)
+            told = asked(**things)
+            kept = copy.deepcopy(told)
+            for thing in things.values():
+                if isinstance(thing, list):
+                    thing.clear()
+            self.assertEqual(told, kept, asked)
 
     def test_the_same_asking_tells_the_same(self):
         for asked, names in ASKED:
@@ -116,10 +151,7 @@ class NothingIsChanged(unittest.TestCase):
 class Kinds(unittest.TestCase):
     def test_each_tells_the_kind_that_the_interface_lists(self):
         for asked, names in ASKED:
-            kind = {"go": tuple, "leaves_none": bool}.get(asked.__name__, list)
-            if asked.__name__.startswith("is_"):
-                kind = bool
-            self.assertIs(type(asked(**handed_in(names))), kind, asked)
+            self.assertIs(type(asked(**handed_in(names))), KINDS.get(asked.__name__, list), asked)
 
     def test_whether_something_is_told_as_true_or_false_of_anything(self):
         pair = pair_of("abc", "cab")
@@ -129,11 +161,9 @@ class Kinds(unittest.TestCase):
 
 
 class Steps(unittest.TestCase):
-    def steps(self, letters, many):
-        """How many lines of the program all functions together go through."""
-        row = SIXTEEN[:letters]
-        events = many_events(row, many, names=False)
-        things = {"pair": (row, row[1:] + row[:1]), "events": events, "thing": events[0]}
+    def steps(self, asked, letters, many):
+        """How many lines of the program a function goes through."""
+        things = many_things(letters, many)
         lines = []
 
         def trace(frame, what, _):
@@ -144,24 +174,27 @@ class Steps(unittest.TestCase):
         before = sys.gettrace()
         sys.settrace(trace)
         try:
-            for asked, names in ASKED:
-                asked(**{name: things[name] for name in names})
+            asked(**{name: things[name] for name in dict(ASKED)[asked]})
         finally:
             sys.settrace(before)
         return len(lines)
 
-    def test_twice_as_many_events_take_a_few_times_as_many_steps(self):
-        for many in [50, 100, 200]:
-            self.assertLess(self.steps(16, 2 * many), 5 * self.steps(16, many))
+    def test_twice_as_many_events_or_letters_in_a_list_take_a_few_times_as_many_steps(self):
+        for asked, _ in ASKED:
+            for many in [50, 100, 200]:
+                self.assertLess(self.steps(asked, 16, 2 * many), 4 * self.steps(asked, 16, many), asked)
 
-    def test_twice_as_many_letters_take_a_few_times_as_many_steps(self):
-        for letters in [2, 4, 8]:
-            self.assertLess(self.steps(2 * letters, 200), 9 * self.steps(letters, 200))
+    def test_twice_as_many_letters_in_a_row_take_a_few_times_as_many_steps(self):
+        for asked, _ in ASKED:
+            for letters in [4, 8]:
+                self.assertLess(self.steps(asked, 2 * letters, 200), 9 * self.steps(asked, letters, 200), asked)
+
+    def test_sixteen_letters_take_few_steps(self):
+        for asked, _ in ASKED:
+            self.assertLess(self.steps(asked, 16, 1), 10000, asked)
 
     def test_far_more_events_than_two_hundred_are_told_of(self):
-        pair = SIXTEEN, SIXTEEN[7:] + SIXTEEN[:7]
-        events = many_events(SIXTEEN, 20000, names=False)
-        things = {"pair": pair, "events": events, "thing": events[0]}
+        things = many_things(16, 20000)
         for asked, names in ASKED:
             asked(**{name: things[name] for name in names})
 

@@ -4,31 +4,14 @@ import unittest
 from itertools import product
 
 from tests.helpers import (
-    SIXTEEN, events_of, faults_of, many_events, model_go, model_reading, nameless_of, other_things, pair_of, pairs_of,
+    NO_PAIRS, SIXTEEN, Refusing, events_of, faults_of, many_events, model_go, model_reading, model_rings, nameless_of,
+    other_things, pair_of, pairs_of, told_rings,
 )
 from twonames.errors import NoEvents, NoPair
 from twonames.readings import fault_rings, leaves_none, left, reading, rings, wrong
 from twonames.rows import go
 
 WITH_EVENTS = (fault_rings, left, leaves_none)
-NO_PAIRS = [None, (), ("ab", "ba"), [("a",), ("a",)], (("a",), ("b",)), (("a", "a"), ("a", "a")), ((), ())]
-
-
-def told_rings(text):
-    """The rings of a text such as "abc de"."""
-    return [tuple(word) for word in text.split()]
-
-
-def model_rings(next_of):
-    """Rings by the words of (8), of a dict of each letter's next one."""
-    found = []
-    for first in sorted(next_of):
-        ring = first
-        while next_of[ring[-1]] != first:
-            ring += next_of[ring[-1]]
-        if len(ring) > 1 and first == min(ring):
-            found.append(tuple(ring))
-    return found
 
 
 def model_left(pair, events):
@@ -229,12 +212,7 @@ class Left(unittest.TestCase):
         self.assertIs(leaves_none(pair, [("lost", 0), ("twice", 1)]), False)
 
 
-class Refused(unittest.TestCase):
-    def refused(self, error, asked, pair, events):
-        with self.assertRaises(error, msg=asked) as caught:
-            asked(pair, events)
-        self.assertIs(type(caught.exception), error)
-
+class Refused(Refusing, unittest.TestCase):
     def test_a_list_with_a_name_in_it(self):
         pair = pair_of("abc", "bca")
         for asked in WITH_EVENTS:

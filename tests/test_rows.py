@@ -3,30 +3,13 @@
 import unittest
 from itertools import product
 
-from tests.helpers import SIXTEEN, events_of, many_events, model_go, other_things, pair_of, pairs_of
+from tests.helpers import (
+    ALPHABET, NO_PAIRS, NO_ROWS, SIXTEEN, Refusing, events_of, many_events, model_go, other_things, pair_of, pairs_of,
+)
 from twonames.errors import NoEvents, NoPair
 from twonames.rows import go, is_event, is_pair, is_row
 
 ABC = pair_of("abc", "bca")
-ALPHABET = "abcdefghijklmnopqrstuvwxyz"
-
-NO_ROWS = [
-    ["a", "b"], "ab", {"a": 1, "b": 2}, {"a", "b"},
-    ("a", "a"), ("a", "b", "a"), SIXTEEN[:15] + ("a",),
-    (), tuple("abcdefghijklmnopq"), tuple(ALPHABET),
-    ("A",), ("a", "B"), ("ab",), ("a", "bc"), ("",), ("a", ""),
-    ("1",), ("`",), ("{",), (" ",), ("-",), ("a", "_"), ("\n",), ("a\n",), ("\u00e4",), ("\uff41",), ("\u0430",),
-    (1,), (True,), (None,), (b"a",), ("a", 1), ("a", ("b",)), ("a", ["b"]), (("a", "b"),), ("a", None),
-]
-
-NO_PAIRS = [
-    [("a", "b"), ("b", "a")], (["a", "b"], ["b", "a"]), (("a", "b"), ["b", "a"]), (["a", "b"], ("b", "a")),
-    ("ab", "ba"), "ab/ba", ("a", "b"), ("a",), (("a",),), (("a",), ("a",), ("a",)), (),
-    ((), ()), (("a",), ("b",)), (("a",), ("a", "b")), (("a", "b"), ("a",)), (("a", "b"), ("a", "c")),
-    (("a", "a"), ("a", "a")), (("a", "b"), ("a", "a")), (("a", "b"), ("b", "b")),
-    (("A",), ("A",)), (("ab",), ("ab",)), ((1,), (1,)), ((None,), (None,)), (("a",), None), (None, ("a",)),
-    (tuple("abcdefghijklmnopq"), tuple("abcdefghijklmnopq")),
-]
 
 # Of a pair of three letters, a to c.
 NO_EVENTS_OF_ABC = [
@@ -41,6 +24,7 @@ NO_EVENTS_OF_ABC = [
     ("name", ("a",)), ("name", ["a"]), ("name", None), ("name", b"a"), ["name", "a"], ("name", "a", 0),
     ("named", "a"), ("Place", 0), ("places", 0), ("place ", 0), ("new", "a"), ("", 0), (0, 0), (0,), (None, 0), (),
     (b"place", 0), (("place", 0),), (("place",), 0), ("place", 0, 1, 2, 3), ("a", 0), (0, "place"), ("a", "name"),
+    ("place", 0, 1, 2), ("lost", 0, 0, 0), ("twice", 0, 1, 2), ("name", "a", "b", "c"), ("as", 0, 1, 0, 1),
 ]
 
 
@@ -76,7 +60,7 @@ class Rows(unittest.TestCase):
             self.assertIs(is_pair(thing), False, thing)
 
 
-class Events(unittest.TestCase):
+class Events(Refusing, unittest.TestCase):
     def test_events_are_events(self):
         for event in events_of("abc"):
             self.assertIs(is_event(ABC, event), True, event)
@@ -104,10 +88,29 @@ class Events(unittest.TestCase):
         for number, thing in enumerate(other_things()):
             self.assertIs(is_event(ABC, thing), False, number)
 
-    def test_nothing_is_an_event_of_what_is_no_pair(self):
-        for number, thing in enumerate(NO_PAIRS + other_things()):
-            self.assertIs(is_event(thing, ("place", 0)), False, number)
-            self.assertIs(is_event(thing, thing), False, number)
+    def test_what_is_no_pair_is_refused_whatever_the_thing_is(self):
+        for pair in NO_PAIRS + other_things():
+            for thing in [("place", 0), ("name", "a"), ("as", 0, 1), ("place", 99), [("place", 0)], None, "", pair]:
+                self.refused(NoPair, is_event, pair, thing)
+                self.refused(NoPair, is_event, pair=pair, thing=thing)
+                self.refused(NoPair, is_event, thing=thing, pair=pair)
+
+    def test_of_what_is_no_pair_not_one_thing_is_told_of(self):
+        for thing in NO_EVENTS_OF_ABC + other_things():
+            self.refused(NoPair, is_event, [ABC[0], ABC[1]], thing)
+
+    def test_a_row_with_a_letter_less_than_the_other_is_in_no_pair(self):
+        pair = tuple("jqrzmgntoukp"), tuple("ujqrzmgntkp")
+        self.refused(NoPair, is_event, pair, ("as", 11, 9))
+        self.refused(NoPair, is_event, pair, [("as", 11, 9)])
+        self.assertIs(is_event((pair[0], pair[0][::-1]), ("as", 11, 9)), True)
+        self.assertIs(is_event((pair[0], pair[0][::-1]), [("as", 11, 9)]), False)
+
+    def test_by_name_too_it_is_told_of_anything(self):
+        for thing in events_of("abc"):
+            self.assertIs(is_event(thing=thing, pair=ABC), True, thing)
+        for number, thing in enumerate(NO_EVENTS_OF_ABC + other_things()):
+            self.assertIs(is_event(thing=thing, pair=ABC), False, number)
 
 
 class Going(unittest.TestCase):
@@ -176,37 +179,32 @@ class Going(unittest.TestCase):
             self.assertEqual((behind, said + more_said, written + more_written), go(ABC, events))
 
 
-class Refused(unittest.TestCase):
-    def refused(self, error, pair, events):
-        with self.assertRaises(error) as caught:
-            go(pair, events)
-        self.assertIs(type(caught.exception), error)
-
+class Refused(Refusing, unittest.TestCase):
     def test_no_pair(self):
         for thing in NO_PAIRS + other_things():
-            self.refused(NoPair, thing, [])
-            self.refused(NoPair, thing, [("place", 0)])
+            self.refused(NoPair, go, thing, [])
+            self.refused(NoPair, go, thing, [("place", 0)])
 
     def test_no_events(self):
         for thing in NO_EVENTS_OF_ABC + other_things():
-            self.refused(NoEvents, ABC, [thing])
-            self.refused(NoEvents, ABC, [("place", 0), thing])
-            self.refused(NoEvents, ABC, [thing, ("place", 0)])
-            self.refused(NoEvents, ABC, thing)
+            self.refused(NoEvents, go, ABC, [thing])
+            self.refused(NoEvents, go, ABC, [("place", 0), thing])
+            self.refused(NoEvents, go, ABC, [thing, ("place", 0)])
+            self.refused(NoEvents, go, ABC, thing)
 
     def test_events_in_something_else_than_a_list(self):
         for thing in [(), (("place", 0),), ("place", 0), {}, {("place", 0): 1}, {("place", 0)}, "", None, iter([])]:
-            self.refused(NoEvents, ABC, thing)
+            self.refused(NoEvents, go, ABC, thing)
 
     def test_events_of_a_greater_pair(self):
         for event in [("place", 3), ("lost", 3), ("twice", 3), ("as", 3, 0), ("as", 0, 3), ("name", "d")]:
-            self.refused(NoEvents, ABC, [event])
+            self.refused(NoEvents, go, ABC, [event])
             go(pair_of("abcd", "abcd"), [event])
 
     def test_no_pair_goes_ahead_of_no_events(self):
         for pair in NO_PAIRS + other_things():
             for events in [None, (), [("place", 99)], [("name", "?")], [None]]:
-                self.refused(NoPair, pair, events)
+                self.refused(NoPair, go, pair, events)
 
 
 if __name__ == "__main__":

@@ -1,7 +1,7 @@
 """Who is read as whom, and what faults change of it."""
 
-from twonames.errors import NoEvents
-from twonames.rows import go, need_events, need_pair, to_front
+from twonames.errors import NoEvents, NoRings
+from twonames.rows import go, is_letter_of, need_events, need_pair, to_front
 
 
 def reading(pair):
@@ -36,6 +36,24 @@ def ring_from(behind, first):
     while behind[ring[-1]] != first:
         ring.append(behind[ring[-1]])
     return tuple(ring)
+
+
+def is_ring(row, thing):
+    """Whether a thing is a tuple of two letters of the row or more, the least first."""
+    if type(thing) is not tuple or len(thing) < 2:
+        return False
+    return all([is_letter_of(row, part) for part in thing]) and thing[0] == min(thing)
+
+
+def need_rings(row, wished):
+    """Refuse what is no list of rings of the row's letters as rings tells them."""
+    if type(wished) is not list:
+        raise NoRings()
+    if not all([is_ring(row, ring) for ring in wished]):
+        raise NoRings()
+    letters = [letter for ring in wished for letter in ring]
+    if len(set(letters)) != len(letters) or wished != sorted(wished):
+        raise NoRings()
 
 
 def need_nameless(pair, events):

@@ -1,6 +1,6 @@
 """Letters, rows, pairs and events, and what events do with a pair."""
 
-from twonames.errors import NoEvents, NoPair
+from twonames.errors import NoEvents, NoLetter, NoPair, NoRow
 
 MOST_LETTERS = 16
 WORDS_WITH_ONE_PLACE = ("place", "lost", "twice")
@@ -29,14 +29,20 @@ def is_pair(thing):
     return is_row(told) and is_row(heard) and sorted(told) == sorted(heard)
 
 
+def is_letter_of(row, thing):
+    """Whether a thing is a letter of the row."""
+    return is_letter(thing) and thing in row
+
+
 def is_place(row, thing):
     """Whether a thing is a place of the row; True and False are none."""
     return type(thing) is int and 0 <= thing < len(row)
 
 
 def is_event(pair, thing):
-    """Whether a thing is an event of the pair; of what is no pair nothing is."""
-    return is_pair(pair) and is_event_of(pair[0], thing)
+    """Whether a thing, whatever it may be, is an event of the pair."""
+    need_pair(pair)
+    return is_event_of(pair[0], thing)
 
 
 # Which things are events hangs on the letters and on how many there are, not
@@ -51,13 +57,33 @@ def is_event_of(row, thing):
     if len(thing) == 3:
         return word == "as" and are_unlike_places(row, thing[1], thing[2])
     if word == "name":
-        return is_letter(thing[1]) and thing[1] in row
+        return is_letter_of(row, thing[1])
     return word in WORDS_WITH_ONE_PLACE and is_place(row, thing[1])
 
 
 def are_unlike_places(row, one, other):
     """Whether both things are places of the row, and not the same one."""
     return is_place(row, one) and is_place(row, other) and one != other
+
+
+def need_row(row):
+    """Refuse what is no row."""
+    if not is_row(row):
+        raise NoRow()
+
+
+def need_letter(row, letter):
+    """Refuse what is no letter of the row."""
+    if not is_letter_of(row, letter):
+        raise NoLetter()
+
+
+def need_letters(row, letters):
+    """Refuse what is no list of letters of the row."""
+    if type(letters) is not list:
+        raise NoLetter()
+    if not all([is_letter_of(row, letter) for letter in letters]):
+        raise NoLetter()
 
 
 def need_pair(pair):
@@ -115,3 +141,19 @@ def go(pair, events):
             written.append(heard[at])
             heard = to_front(heard, at)
     return (told, heard), said, written
+
+
+def told_by_places(row, letters):
+    """The events by which the letters are told, each by its place, one behind another."""
+    events = []
+    standing = row
+    for letter in letters:
+        place = standing.index(letter)
+        events.append(("place", place))
+        standing = to_front(standing, place)
+    return events
+
+
+def brought_to_front(row, letters):
+    """The events by which unlike letters come to stand in front in just their order."""
+    return told_by_places(row, letters[::-1])
