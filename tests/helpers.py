@@ -6,6 +6,8 @@ for each kind of event, straight from the words of the document.
 
 from itertools import permutations
 
+from twonames.errors import NoEvents, NoLetter
+
 SIXTEEN = tuple("abcdefghijklmnop")
 ALPHABET = "abcdefghijklmnopqrstuvwxyz"
 
@@ -25,6 +27,49 @@ NO_PAIRS = [
     (("a", "a"), ("a", "a")), (("a", "b"), ("a", "a")), (("a", "b"), ("b", "b")),
     (("A",), ("A",)), (("ab",), ("ab",)), ((1,), (1,)), ((None,), (None,)), (("a",), None), (None, ("a",)),
     (tuple("abcdefghijklmnopq"), tuple("abcdefghijklmnopq")),
+]
+
+# Of a pair of the letters a to c.
+NO_LETTERS = [
+    ["d"], ["a", "d"], ["A"], ["ab"], [""], ["a", ""], [0], [1], [True], [None], ["a", None], [b"a"], [("a",)], [["a"]],
+    [("name", "a")], [{"a"}], ("a",), ("a", "b"), (), "a", "abc", "", {"a"}, set(), {}, {"a": 1}, None, 0, True,
+    iter("a"),
+]
+
+# Of a pair of three letters, a to c.
+NO_EVENTS_OF_ABC = [
+    ["place", 0], "place", ("place",), ("place", 0, 1), ("place", 3), ("place", -1), ("place", True), ("place", False),
+    ("place", "a"), ("place", "0"), ("place", 0.0), ("place", None), ("place", 10 ** 29), ("place", -10 ** 29),
+    ("lost",), ("lost", 0, 0), ("lost", 3), ("lost", -1), ("lost", True), ("lost", "a"), ["lost", 0],
+    ("twice",), ("twice", 0, 0), ("twice", 3), ("twice", -1), ("twice", False), ("twice", "a"), ["twice", 0],
+    ("as",), ("as", 0), ("as", 0, 1, 2), ("as", 0, 0), ("as", 2, 2), ("as", 0, 3), ("as", 3, 0), ("as", -1, 0),
+    ("as", 0, -1), ("as", True, 0), ("as", 0, True), ("as", False, 1), ("as", 1, False), ("as", "a", "b"),
+    ("as", 3, 3), ("as", (0, 1)), ["as", 0, 1],
+    ("name",), ("name", "a", "b"), ("name", "d"), ("name", "A"), ("name", "ab"), ("name", ""), ("name", 0),
+    ("name", ("a",)), ("name", ["a"]), ("name", None), ("name", b"a"), ["name", "a"], ("name", "a", 0),
+    ("named", "a"), ("Place", 0), ("places", 0), ("place ", 0), ("new", "a"), ("", 0), (0, 0), (0,), (None, 0), (),
+    (b"place", 0), (("place", 0),), (("place",), 0), ("place", 0, 1, 2, 3), ("a", 0), (0, "place"), ("a", "name"),
+    ("place", 0, 1, 2), ("lost", 0, 0, 0), ("twice", 0, 1, 2), ("name", "a", "b", "c"), ("as", 0, 1, 0, 1),
+]
+
+
+def told_rings(text):
+    """The rings of a text such as "abc de"."""
+    return [tuple(word) for word in text.split()]
+
+
+# Of a row of the letters a to e.
+NO_RINGS = [
+    told_rings("a"), told_rings("ab c"), [()], told_rings("ab") + [()],
+    told_rings("ba"), told_rings("bca"), told_rings("cab"), told_rings("ab dc"), told_rings("dc ab"),
+    told_rings("cd ab"), told_rings("bc ad"), told_rings("de ab"),
+    told_rings("aa"), told_rings("aba"), told_rings("abb"), told_rings("abcdea"), told_rings("ab ab"),
+    told_rings("ab bc"), told_rings("ab ac"), told_rings("abc cd"), told_rings("abc ce"),
+    told_rings("af"), told_rings("fg"), told_rings("ab fg"), told_rings("aB"), told_rings("AB"),
+    [("ab", "c")], [("a", "")], [("a", 1)], [("a", None)], [("a", True)], [(0, 1)], [("a", ("b",))], [("a", ["b"])],
+    [("a", b"b")], [["a", "b"]], ["ab"], [{"a", "b"}], [{"a": 1, "b": 2}], [("a", "b"), ["c", "d"]], [("a", "b"), None],
+    [("a", "b"), "cd"], [[("a", "b")]], [(("a", "b"),)],
+    (("a", "b"),), ("a", "b"), (), "", "ab", "(ab)", None, {}, {("a", "b"): 1}, {("a", "b")}, 0, True, iter([]),
 ]
 
 
@@ -95,9 +140,20 @@ def model_rings(next_of):
     return found
 
 
-def told_rings(text):
-    """The rings of a text such as "abc de"."""
-    return [tuple(word) for word in text.split()]
+def model_fewest(row, gone, faults):
+    """By pair, the fewest faults by which it comes from the row twice, places between, all gone through."""
+    fewest, layer, many = {}, [(row, row)], 0
+    while layer:
+        for pair in layer:
+            fewest.setdefault(pair, many)
+            for at in range(len(row)):
+                behind = gone(pair, [("place", at)])[0]
+                if behind not in fewest:
+                    fewest[behind] = many
+                    layer.append(behind)
+        later = {gone(pair, [fault])[0] for pair in layer for fault in faults}
+        layer, many = [pair for pair in later if pair not in fewest], many + 1
+    return fewest
 
 
 def is_alike(pair):
@@ -130,6 +186,23 @@ class Refusing:
         with self.assertRaises(error, msg=asked) as caught:
             asked(*things, **named)
         self.assertIs(type(caught.exception), error)
+
+    def letters_refused(self, asked):
+        """What is no list of letters is refused; asked of a row's letters in one word and a thing."""
+        for thing in NO_LETTERS:
+            self.refused(NoLetter, asked, "abc", thing)
+        for thing in other_things():
+            for letters in (thing, [thing], ["x", thing], [thing, "y"]):
+                self.refused(NoLetter, asked, "xyz", letters)
+
+    def events_refused(self, asked):
+        """What is no list of events is refused; asked of things in the stead of events of the letters a to c."""
+        for thing in NO_EVENTS_OF_ABC + other_things():
+            self.refused(NoEvents, asked, [thing])
+            self.refused(NoEvents, asked, [("place", 1), thing])
+            self.refused(NoEvents, asked, [thing, ("place", 1)])
+        for thing in [(("place", 1),), ("place", 1), "place", {}, {("place", 1): 1}, ()] + other_things():
+            self.refused(NoEvents, asked, thing)
 
 
 def many_events(row, many, names=True):

@@ -4,16 +4,11 @@ import unittest
 from itertools import combinations, permutations
 
 from tests.helpers import (
-    NO_PAIRS, SIXTEEN, Refusing, is_alike, model_go, model_reading, other_things, pair_of, pairs_of, shuffled,
+    NO_LETTERS, NO_PAIRS, SIXTEEN, Refusing, is_alike, model_go, model_reading, other_things, pair_of, pairs_of,
+    shuffled,
 )
 from twonames.alone import alone, can_heal
 from twonames.errors import NoLetter, NoPair
-
-# Of a pair of the letters a to c.
-NO_LETTERS = [
-    ["d"], ["a", "d"], ["A"], ["ab"], [""], ["a", ""], [0], [1], [True], [None], ["a", None], [b"a"], [("a",)], [["a"]],
-    [("name", "a")], [{"a"}], ("a",), ("a", "b"), (), "a", "abc", "", {"a"}, set(), {}, {"a": 1}, None, 0, True, iter("a"),
-]
 
 
 def names_of(letters):

@@ -4,48 +4,18 @@ import unittest
 from itertools import permutations
 
 from tests.helpers import (
-    NO_PAIRS, NO_ROWS, SIXTEEN, Refusing, faults_of, is_alike, kinds_of, many_events, model_go, model_reading,
-    model_rings, nameless_of, other_things, pair_of, pairs_of, shuffled, told_rings,
+    NO_PAIRS, NO_RINGS, NO_ROWS, SIXTEEN, Refusing, faults_of, is_alike, kinds_of, many_events, model_fewest, model_go,
+    model_reading, model_rings, nameless_of, other_things, pair_of, pairs_of, shuffled, told_rings,
 )
 from twonames.errors import NoPair, NoRings, NoRow
 from twonames.made import even, made_by
 from twonames.readings import fault_rings, left, rings
-
-# Of a row of the letters a to e.
-NO_RINGS = [
-    told_rings("a"), told_rings("ab c"), [()], told_rings("ab") + [()],
-    told_rings("ba"), told_rings("bca"), told_rings("cab"), told_rings("ab dc"), told_rings("dc ab"),
-    told_rings("cd ab"), told_rings("bc ad"), told_rings("de ab"),
-    told_rings("aa"), told_rings("aba"), told_rings("abb"), told_rings("abcdea"), told_rings("ab ab"),
-    told_rings("ab bc"), told_rings("ab ac"), told_rings("abc cd"), told_rings("abc ce"),
-    told_rings("af"), told_rings("fg"), told_rings("ab fg"), told_rings("aB"), told_rings("AB"),
-    [("ab", "c")], [("a", "")], [("a", 1)], [("a", None)], [("a", True)], [(0, 1)], [("a", ("b",))], [("a", ["b"])],
-    [("a", b"b")], [["a", "b"]], ["ab"], [{"a", "b"}], [{"a": 1, "b": 2}], [("a", "b"), ["c", "d"]], [("a", "b"), None],
-    [("a", "b"), "cd"], [[("a", "b")]], [(("a", "b"),)],
-    (("a", "b"),), ("a", "b"), (), "", "ab", "(ab)", None, {}, {("a", "b"): 1}, {("a", "b")}, 0, True, iter([]),
-]
 
 
 def model_even(pair):
     """Whether the places of the heard letters in the teller's row are out of order an even number of times."""
     places = [pair[0].index(x) for x in pair[1]]
     return sum(places[i] > places[j] for j in range(len(places)) for i in range(j)) % 2 == 0
-
-
-def model_fewest(row):
-    """By pair, the fewest faults by which it comes from the row twice, gone through."""
-    fewest, layer, many = {}, [(row, row)], 0
-    while layer:
-        for pair in layer:
-            fewest.setdefault(pair, many)
-            for at in range(len(row)):
-                behind = model_go(pair, [("place", at)])[0]
-                if behind not in fewest:
-                    fewest[behind] = many
-                    layer.append(behind)
-        later = {model_go(pair, [fault])[0] for pair in layer for fault in faults_of(row)}
-        layer, many = [pair for pair in later if pair not in fewest], many + 1
-    return fewest
 
 
 class HowFew(unittest.TestCase):
@@ -104,7 +74,7 @@ class HowFew(unittest.TestCase):
 
     def test_no_fewer_faults_do(self):
         for row in [tuple("dbca"), tuple("zx"), tuple("bca")]:
-            for pair, many in model_fewest(row).items():
+            for pair, many in model_fewest(row, model_go, faults_of(row)).items():
                 self.assertEqual(made_by(row, model_rings(model_reading(pair)))[0], many, pair)
 
     def test_what_is_told_of_rings_may_be_handed_in(self):

@@ -4,28 +4,13 @@ import unittest
 from itertools import product
 
 from tests.helpers import (
-    ALPHABET, NO_PAIRS, NO_ROWS, SIXTEEN, Refusing, events_of, many_events, model_go, other_things, pair_of, pairs_of,
+    ALPHABET, NO_EVENTS_OF_ABC, NO_PAIRS, NO_ROWS, SIXTEEN, Refusing, events_of, many_events, model_go, other_things,
+    pair_of, pairs_of,
 )
 from twonames.errors import NoEvents, NoPair
 from twonames.rows import go, is_event, is_pair, is_row
 
 ABC = pair_of("abc", "bca")
-
-# Of a pair of three letters, a to c.
-NO_EVENTS_OF_ABC = [
-    ["place", 0], "place", ("place",), ("place", 0, 1), ("place", 3), ("place", -1), ("place", True), ("place", False),
-    ("place", "a"), ("place", "0"), ("place", 0.0), ("place", None), ("place", 10 ** 29), ("place", -10 ** 29),
-    ("lost",), ("lost", 0, 0), ("lost", 3), ("lost", -1), ("lost", True), ("lost", "a"), ["lost", 0],
-    ("twice",), ("twice", 0, 0), ("twice", 3), ("twice", -1), ("twice", False), ("twice", "a"), ["twice", 0],
-    ("as",), ("as", 0), ("as", 0, 1, 2), ("as", 0, 0), ("as", 2, 2), ("as", 0, 3), ("as", 3, 0), ("as", -1, 0),
-    ("as", 0, -1), ("as", True, 0), ("as", 0, True), ("as", False, 1), ("as", 1, False), ("as", "a", "b"),
-    ("as", 3, 3), ("as", (0, 1)), ["as", 0, 1],
-    ("name",), ("name", "a", "b"), ("name", "d"), ("name", "A"), ("name", "ab"), ("name", ""), ("name", 0),
-    ("name", ("a",)), ("name", ["a"]), ("name", None), ("name", b"a"), ["name", "a"], ("name", "a", 0),
-    ("named", "a"), ("Place", 0), ("places", 0), ("place ", 0), ("new", "a"), ("", 0), (0, 0), (0,), (None, 0), (),
-    (b"place", 0), (("place", 0),), (("place",), 0), ("place", 0, 1, 2, 3), ("a", 0), (0, "place"), ("a", "name"),
-    ("place", 0, 1, 2), ("lost", 0, 0, 0), ("twice", 0, 1, 2), ("name", "a", "b", "c"), ("as", 0, 1, 0, 1),
-]
 
 
 class Rows(unittest.TestCase):

@@ -1,7 +1,7 @@
 """Who is read as whom, and what faults change of it."""
 
 from twonames.errors import NoEvents, NoRings
-from twonames.rows import go, is_letter_of, need_events, need_pair, to_front
+from twonames.rows import MOST_LETTERS, go, has_name, is_letter_of, need_events, need_pair, to_front
 
 
 def reading(pair):
@@ -38,21 +38,26 @@ def ring_from(behind, first):
     return tuple(ring)
 
 
-def is_ring(row, thing):
-    """Whether a thing is a tuple of two letters of the row or more, the least first."""
+def is_ring(letters, thing):
+    """Whether a thing is a tuple of two of these letters or more, the least first."""
     if type(thing) is not tuple or len(thing) < 2:
         return False
-    return all([is_letter_of(row, part) for part in thing]) and thing[0] == min(thing)
+    return all([is_letter_of(letters, part) for part in thing]) and thing[0] == min(thing)
+
+
+def are_rings(letters, thing):
+    """Whether a thing is a list of rings of these letters such as rings tells."""
+    if type(thing) is not list or not all([is_ring(letters, part) for part in thing]):
+        return False
+    within = [letter for ring in thing for letter in ring]
+    if len(within) > MOST_LETTERS or len(set(within)) != len(within):
+        return False
+    return thing == sorted(thing)
 
 
 def need_rings(row, wished):
     """Refuse what is no list of rings of the row's letters as rings tells them."""
-    if type(wished) is not list:
-        raise NoRings()
-    if not all([is_ring(row, ring) for ring in wished]):
-        raise NoRings()
-    letters = [letter for ring in wished for letter in ring]
-    if len(set(letters)) != len(letters) or wished != sorted(wished):
+    if not are_rings(row, wished):
         raise NoRings()
 
 
@@ -60,7 +65,7 @@ def need_nameless(pair, events):
     """Refuse what is no pair, then what is no list of its events but names."""
     need_pair(pair)
     need_events(pair, events)
-    if any([event[0] == "name" for event in events]):
+    if has_name(events):
         raise NoEvents()
 
 

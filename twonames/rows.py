@@ -18,7 +18,12 @@ def is_row(thing):
     """Whether a thing is a tuple of one to sixteen unlike letters."""
     if type(thing) is not tuple or not 1 <= len(thing) <= MOST_LETTERS:
         return False
-    return all([is_letter(part) for part in thing]) and len(set(thing)) == len(thing)
+    return are_unlike_letters(thing)
+
+
+def are_unlike_letters(parts):
+    """Whether all parts are letters, no two of them alike."""
+    return all([is_letter(part) for part in parts]) and len(set(parts)) == len(parts)
 
 
 def is_pair(thing):
@@ -49,16 +54,22 @@ def is_event(pair, thing):
 # on their order: so one row is enough, and it may be the row ahead of them all.
 def is_event_of(row, thing):
     """Whether a thing is an event of a pair of rows of this row's letters."""
-    if type(thing) is not tuple or not 2 <= len(thing) <= 3:
+    if not has_word(thing):
         return False
     word = thing[0]
-    if type(word) is not str:
-        return False
     if len(thing) == 3:
         return word == "as" and are_unlike_places(row, thing[1], thing[2])
     if word == "name":
         return is_letter_of(row, thing[1])
     return word in WORDS_WITH_ONE_PLACE and is_place(row, thing[1])
+
+
+def has_word(thing):
+    """Whether a thing is a tuple of a text and one or two more parts, as all events are."""
+    if type(thing) is not tuple or not 2 <= len(thing) <= 3:
+        return False
+    word = thing[0]
+    return type(word) is str
 
 
 def are_unlike_places(row, one, other):
@@ -129,29 +140,44 @@ def go(pair, events):
     """The pair behind the events, the letters told and the letters written."""
     need_pair(pair)
     need_events(pair, events)
+    return gone(pair, events, to_front)
+
+
+def gone(pair, events, taken):
+    """What go tells, of events that surely are the pair's; taken tells the row behind the telling of a place of it."""
     told, heard = pair
     said = []
     written = []
     for event in events:
         place = place_told(told, event)
         said.append(told[place])
-        told = to_front(told, place)
-        taken = places_heard(heard, event)
-        for at in taken:
+        told = taken(told, place)
+        places = places_heard(heard, event)
+        for at in places:
             written.append(heard[at])
-            heard = to_front(heard, at)
+            heard = taken(heard, at)
     return (told, heard), said, written
+
+
+def has_name(events):
+    """Whether one of the events is a name."""
+    return any([event[0] == "name" for event in events])
+
+
+def places_of_letters(row, letters):
+    """The places at which the letters stand, each when those ahead of it have been taken to the front."""
+    places = []
+    standing = row
+    for letter in letters:
+        place = standing.index(letter)
+        places.append(place)
+        standing = to_front(standing, place)
+    return places
 
 
 def told_by_places(row, letters):
     """The events by which the letters are told, each by its place, one behind another."""
-    events = []
-    standing = row
-    for letter in letters:
-        place = standing.index(letter)
-        events.append(("place", place))
-        standing = to_front(standing, place)
-    return events
+    return [("place", place) for place in places_of_letters(row, letters)]
 
 
 def brought_to_front(row, letters):
